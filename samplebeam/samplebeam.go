@@ -9,7 +9,7 @@ import (
 
 // Line returns the beam line of the elements of a lattice and of a line, both as texts.
 func Line(elements, line string) api.Beamline {
-	l, _, _ := lattice.Parse("lattice x { " + elements + " line r = " + line + " ; use r ; }")
+	l, _, _ := lattice.Parse("lattice x { " + elements + " line whole_line = " + line + " ; use whole_line ; }")
 	b, _ := expand.Expand(l, "")
 	return b
 }
