@@ -79,7 +79,7 @@ func roundedRatio(r api.Ratio, w *exact.Work) int {
 	floor := w.Floor(w.Add(r, exact.Fraction(1, 2)))
 	n, e := integer.Small(floor.Num)
 	if e != api.OK {
-		return exact.Sign(floor) * 2 * most
+		return exact.Sign(floor) * 4 * most
 	}
 	return n
 }
