@@ -127,11 +127,11 @@ func (p *parser) primary() api.Logical {
 }
 
 func (p *parser) vote() api.Logical {
-	line := *p.Cursor
+	before := *p.Cursor
 	e := api.Logical{Kind: api.LogicVote, K: p.Count()}
 	if e.K > mostVote {
 		// The error is that of the number, which is read already.
-		*p.Cursor = line
+		*p.Cursor = before
 		p.Fail(api.ErrSyntax)
 	}
 	p.Word("of")
