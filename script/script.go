@@ -107,3 +107,10 @@ func (c *Cursor) Count() int {
 	c.at++
 	return n
 }
+
+// FailAt remembers an error with a line, if it is the first one.
+func (c *Cursor) FailAt(line int, e api.Errno) {
+	if !c.Failed() {
+		c.line, c.err = line, e
+	}
+}
