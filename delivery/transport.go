@@ -5,6 +5,7 @@ import (
 	"slices"
 
 	"betatron/api"
+	"betatron/limits"
 )
 
 const mostDelay = 1 << 30
@@ -31,12 +32,12 @@ func branchError(b api.Branch, n int) api.Errno {
 		return api.ErrRange
 	}
 	for _, d := range b.Delays {
-		if !inside(d, 0, mostDelay) {
+		if !limits.Inside(d, 0, mostDelay) {
 			return api.ErrRange
 		}
 	}
 	for _, i := range b.Lost {
-		if !inside(i, 0, n-1) {
+		if !limits.Inside(i, 0, n-1) {
 			return api.ErrRange
 		}
 	}

@@ -6,6 +6,7 @@ import (
 	"betatron/api"
 	"betatron/clone"
 	"betatron/input"
+	"betatron/limits"
 	"betatron/mask"
 	"betatron/permitloop"
 	"betatron/zone"
@@ -27,7 +28,7 @@ func stepError(c api.Protection, s api.ProtectionState, a api.ProtectionStep) ap
 	if _, e := mask.Flag(c.Masks, a.Conditions); e != api.OK {
 		return e
 	}
-	if !inside(a.Kind, 0, mostActions) {
+	if !limits.Inside(a.Kind, 0, mostActions) {
 		return api.ErrInvalid
 	}
 	return api.OK

@@ -7,6 +7,7 @@ import (
 	"betatron/clone"
 	"betatron/converter"
 	"betatron/hysteresis"
+	"betatron/limits"
 	"betatron/mode"
 	"betatron/permitloop"
 	"betatron/protection"
@@ -177,7 +178,7 @@ func Do(w api.World, s api.WorldStep) (api.World, api.Errno) {
 	if e := Valid(w); e != api.OK {
 		return api.World{}, e
 	}
-	if !inside(s.Kind, commandsConverter, kicks) {
+	if !limits.Inside(s.Kind, commandsConverter, kicks) {
 		return api.World{}, api.ErrInvalid
 	}
 	if w.Now > lastBegin {
@@ -205,14 +206,14 @@ func Do(w api.World, s api.WorldStep) (api.World, api.Errno) {
 	case makesFault:
 		return fault(w, s.A, s.B)
 	}
-	if !inside(s.A, -mostKick, mostKick) {
+	if !limits.Inside(s.A, -mostKick, mostKick) {
 		return api.World{}, api.ErrRange
 	}
 	return changed(w, func(w *api.World) { w.Kick = s.A })
 }
 
 func command(w api.World, at, kind int) (api.World, api.Errno) {
-	if !inside(at, 0, len(w.Converters)-1) {
+	if !limits.Inside(at, 0, len(w.Converters)-1) {
 		return api.World{}, api.ErrRange
 	}
 	if kind == api.CommandSet {
@@ -239,7 +240,7 @@ func target(w api.World, first, second int) (api.World, api.Errno) {
 }
 
 func wait(w api.World, n int) (api.World, api.Errno) {
-	if !inside(n, 1, mostTicks) {
+	if !limits.Inside(n, 1, mostTicks) {
 		return api.World{}, api.ErrRange
 	}
 	var e api.Errno
@@ -273,7 +274,7 @@ func change(w api.World, name string) (api.World, api.Errno) {
 }
 
 func inject(w api.World, n int) (api.World, api.Errno) {
-	if !inside(n, 1, mostParticles) {
+	if !limits.Inside(n, 1, mostParticles) {
 		return api.World{}, api.ErrRange
 	}
 	if w.Protection.Beam {
@@ -314,7 +315,7 @@ func fault(w api.World, kind, index int) (api.World, api.Errno) {
 		return changed(w, func(w *api.World) { w.Leak = kind == leaks })
 	case breaksLoop:
 		l, _ := permitloop.Failures(w.Protection.Loops.Network)
-		if !inside(index, 0, len(l)-1) {
+		if !limits.Inside(index, 0, len(l)-1) {
 			return api.World{}, api.ErrRange
 		}
 		return tick(w, action{kind: actionFailure, failure: l[index]})

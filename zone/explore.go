@@ -4,6 +4,7 @@ import (
 	"slices"
 
 	"betatron/api"
+	"betatron/limits"
 )
 
 // bits returns the number of a list in which some elements are set.
@@ -119,7 +120,7 @@ func Attack(z api.Zone, rule int) ([]int, api.Errno) {
 	if e := Valid(z); e != api.OK {
 		return nil, e
 	}
-	if !inside(rule, noRule, mostRule) {
+	if !limits.Inside(rule, noRule, mostRule) {
 		return nil, api.ErrRange
 	}
 	// Shorter lists are tried first, and those of one length in their order.
