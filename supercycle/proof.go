@@ -76,7 +76,8 @@ func Prove(p api.Timetable) ([]api.Potential, api.Errno) {
 
 // isState reports whether a potential has a state of a timetable.
 func isState(p api.Timetable, s api.Potential) bool {
-	if len(s.Counts) != len(p.Counts) || !limits.Inside(s.Last, -1, len(p.Cycles)-1) || !limits.Inside(s.Since, 0, p.Recovery) || !limits.Inside(s.Value, -api.MaxTime, api.MaxTime) {
+	if len(s.Counts) != len(p.Counts) || !limits.Inside(s.Last, -1, len(p.Cycles)-1) ||
+		!limits.Inside(s.Since, 0, p.Recovery) || !limits.Inside(s.Value, -api.MaxTime, api.MaxTime) {
 		return false
 	}
 	for i, count := range s.Counts {
