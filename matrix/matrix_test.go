@@ -135,3 +135,34 @@ func TestMemory(t *testing.T) {
 		t.Error("rules: a result shares memory with an argument")
 	}
 }
+
+// P3.1: numbers of the promised weight are never too large.
+func TestWeight(t *testing.T) {
+	for seed := range 20 {
+		for n := 1; n <= 3; n++ {
+			heavy := func(weight int) api.Matrix {
+				each := weight / (n * n)
+				return fresh(n, n, func(i, k int) api.Ratio {
+					above := 1 + (seed+i+k)%(each-1)
+					return sample.Heavy(above, each-above, seed*100+i*10+k)
+				})
+			}
+			small, large := heavy(60), heavy(100)
+			if _, e := Det(small); e != api.OK {
+				t.Errorf("P3.1: Det: %d", e)
+			}
+			if _, e := Inverse(small); e != api.OK {
+				t.Errorf("P3.1: Inverse: %d", e)
+			}
+			if _, e := Mul(large, large); e != api.OK {
+				t.Errorf("P3.1: Mul: %d", e)
+			}
+			if _, e := Power(heavy(40), 5); e != api.OK {
+				t.Errorf("P3.1: Power: %d", e)
+			}
+			if _, e := Trace(heavy(200)); e != api.OK {
+				t.Errorf("P3.1: Trace: %d", e)
+			}
+		}
+	}
+}

@@ -185,3 +185,35 @@ func TestErrors(t *testing.T) {
 
 func code(_ api.Poly, e api.Errno) api.Errno { return e }
 func number(_ int, e api.Errno) api.Errno    { return e }
+
+// P5.1: numbers of the promised weight are never too large.
+func TestWeight(t *testing.T) {
+	heavy := func(coeffs, weight, seed int) api.Poly {
+		var p api.Poly
+		each := weight / coeffs
+		for i := range coeffs {
+			above := 1 + (seed+i)%(each-1)
+			p.Coeffs = append(p.Coeffs, sample.Heavy(above, each-above, seed*10+i))
+		}
+		p.Coeffs[0] = exact.Neg(p.Coeffs[0])
+		return p
+	}
+	for seed := range 40 {
+		i := api.Interval{Low: exact.Neg(sample.Heavy(4, 4, seed)), High: sample.Heavy(5, 3, seed+1)}
+		for coeffs := 2; coeffs <= 5; coeffs++ {
+			p := heavy(coeffs, 40, seed)
+			if _, _, e := DivMod(p, heavy(coeffs-1, 40, seed+9)); e != api.OK {
+				t.Errorf("P5.1: DivMod: %d", e)
+			}
+			if _, e := Bernstein(p, i); e != api.OK {
+				t.Errorf("P5.1: Bernstein: %d", e)
+			}
+			if _, e := Roots(heavy(coeffs, 24, seed), i); e != api.OK {
+				t.Errorf("P5.1: Roots: %d", e)
+			}
+			if _, e := Isolate(heavy(coeffs, 24, seed), i, 8); e != api.OK {
+				t.Errorf("P5.1: Isolate: %d", e)
+			}
+		}
+	}
+}

@@ -5,6 +5,7 @@ import (
 	"strings"
 
 	"betatron/api"
+	"betatron/exact"
 	"betatron/ratio"
 )
 
@@ -60,4 +61,19 @@ func MatrixText(m api.Matrix) string {
 		rows = append(rows, Text(m.Cells[i:i+m.Cols]...))
 	}
 	return strings.Join(rows, " / ")
+}
+
+// Heavy returns a ratio whose numerator and denominator have so many digits, at least one each, before it is reduced;
+// the seed decides about the digits.
+func Heavy(above, below, seed int) api.Ratio {
+	digits := func(n int) string {
+		text := []byte{'9'}
+		for len(text) < n {
+			seed = (seed*1103515245 + 12345) % (1 << 31)
+			text = append(text, byte('0'+(seed>>16)%10))
+		}
+		return string(text)
+	}
+	var w exact.Work
+	return w.Div(Ratio(digits(above)), Ratio(digits(below)))
 }

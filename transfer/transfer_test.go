@@ -105,3 +105,24 @@ func TestErrors(t *testing.T) {
 }
 
 func code(_ api.Matrix, e api.Errno) api.Errno { return e }
+
+// P12.1: numbers of the promised weight are never too large.
+func TestWeight(t *testing.T) {
+	for seed := range 30 {
+		b := samplebeam.Line("quad q length 1 strength 1 ; bend r length 1 strength 1/2 radius 1 ;", "q r")
+		long := 1 + seed%27
+		q, r := &b.Places[0].Element, &b.Places[1].Element
+		q.Length, q.Strength = sample.Heavy(long, 28-long, seed), sample.Heavy(28-long, long, seed+1)
+		r.Length, r.Strength, r.Radius = sample.Heavy(9, 9, seed), sample.Heavy(1+seed%9, 10, seed+2), sample.Heavy(9, 9, seed+3)
+		var w exact.Work
+		r.Strength = w.Div(r.Strength, exact.Whole(10))
+		b.Places[0].To, b.Places[1].From, b.Places[1].To = q.Length, q.Length, w.Add(q.Length, r.Length)
+		for plane := 1; plane <= 2; plane++ {
+			m, e := OneTurn(b, plane, 1)
+			_, f := Trace(b, plane, []api.Ratio{sample.Heavy(6, 6, seed), sample.Heavy(1, 12, seed), sample.Heavy(12, 1, seed)})
+			if e != api.OK || f != api.OK || !Symplectic(m) {
+				t.Errorf("P12.1: seed %d: %d %d", seed, e, f)
+			}
+		}
+	}
+}
