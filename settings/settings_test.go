@@ -200,3 +200,20 @@ func TestErrors(t *testing.T) {
 		t.Errorf("P58.1: Format: %d", e)
 	}
 }
+
+// TestParseNames: the names of a line are examined with the list, behind the syntax of all lines and the number of them.
+func TestParseNames(t *testing.T) {
+	for i, c := range []struct {
+		s    string
+		line int
+		e    api.Errno
+	}{
+		{"   int = 1\n", 0, api.ErrSyntax}, {" b c int = 1\n", 0, api.ErrSyntax}, {"a  c int = 1\n", 0, api.ErrSyntax}, {"a b  int = 1\n", 0, api.ErrSyntax}, {"a b c int = 1\n  c int = 2\n", 0, api.ErrSyntax}, {"A \t 1_ text = \"\"\n", 0, api.ErrSyntax},
+		{"   int = 1\nx\n", 2, api.ErrSyntax}, {"   int = 1\n   int = 1", 2, api.ErrSyntax}, {strings.Repeat("   int = 1\n", 51), 0, api.ErrTooLarge}, {"b b c int = 1\na b c int = 1\n   int = 1\n", 0, api.ErrOrder},
+		{"  int = 1\n", 1, api.ErrSyntax}, {"    int = 1\n", 1, api.ErrSyntax}, {"a b c  int = 1\n", 1, api.ErrSyntax}, {"a b c d int = 1\n", 1, api.ErrSyntax}, {"   int =  1\n", 1, api.ErrSyntax}, {"    = 1\n", 1, api.ErrSyntax}, {"   int = \n", 1, api.ErrSyntax},
+	} {
+		if l, line, e := Parse(c.s); line != c.line || e != c.e || len(l) != 0 {
+			t.Errorf("P58.1: Parse, row %d: %v %d %d", i, l, line, e)
+		}
+	}
+}

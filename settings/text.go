@@ -59,10 +59,10 @@ func Parse(s string) ([]api.Assignment, int, api.Errno) {
 	return l, 0, api.OK
 }
 
-// parseLine returns the assignment of a line; its names can be any words.
+// parseLine returns the assignment of a line. Its names can be any words, the empty one too: listError examines them behind all lines.
 func parseLine(line string) (api.Assignment, bool) {
 	words := strings.SplitN(line, " ", wordCount)
-	if len(words) < wordCount || words[0] == "" || words[1] == "" || words[2] == "" || words[4] != "=" {
+	if len(words) < wordCount || words[4] != "=" {
 		return api.Assignment{}, false
 	}
 	value, e := device.ParseValue(typeOf(words[3]), words[5])
